@@ -3,80 +3,123 @@ package build
 
 import (
 	"slices"
-	"strings"
 	"sync"
 
 	"kiln/api"
 	"kiln/recipe"
 )
 
-// bench is what the workers of one build share. They only read it, but for each worker's own element
-// of made, which others read when the worker has closed its channel.
+// Builder works the same rules again and again. It remembers what each was run with last: so no recipe
+// is worked in vain.
+type Builder struct {
+	plan plan
+	runs []run // by the numbers of steps
+}
+
+// run is how a rule was run last. Done tells one that was never run from one that was run without ins.
+type run struct {
+	done bool
+	ins  []recipe.Value
+	made recipe.Value
+}
+
+// New makes a builder of rules. They must be right: in a round each rule would wait for the next one for ever.
+func New(rules []api.Rule) *Builder {
+	own := slices.Clone(rules)
+	for i := range own {
+		own[i].Ins = slices.Clone(own[i].Ins)
+	}
+	return &Builder{plan: plan{rules: own}, runs: make([]run, len(own))}
+}
+
+// Sources tells the sources of all rules, each once, by their names.
+func (b *Builder) Sources() []string {
+	return slices.Clone(b.plan.layout().sources)
+}
+
+// Build tells the results of all rules, by their Outs, and the Outs that were run for them, by name.
+// The values are those of Sources, in that order.
+func (b *Builder) Build(sources []recipe.Value) ([]api.Result, []string) {
+	work := newBench(b.plan.layout(), sources, b.runs)
+	work.workAll()
+	return work.results(), work.ranOuts()
+}
+
+// bench is what the workers of one build share. They only read it, but for each worker's own elements
+// of runs and ran, which others read when the worker has closed its channel.
 type bench struct {
-	rules   []api.Rule
-	sources map[string]recipe.Value
-	numbers map[string]int // of rules, by their Outs
-	made    []recipe.Value
-	done    []chan struct{}
+	*layout
+	values []recipe.Value // of sources
+	runs   []run
+	ran    []bool
+	made   []chan struct{}
 }
 
-// Results tells the results of rules, by their Outs. A source that is not in sources is not there.
-// The rules must be right: in a round each rule would wait for the next one for ever.
-func Results(rules []api.Rule, sources map[string]recipe.Value) []api.Result {
-	b := newBench(rules, sources)
-	var workers sync.WaitGroup
-	for i := range rules {
-		workers.Add(1)
-		go func() {
-			defer workers.Done()
-			b.work(i)
-		}()
-	}
-	workers.Wait()
-	return b.results()
-}
-
-func newBench(rules []api.Rule, sources map[string]recipe.Value) *bench {
+func newBench(layout *layout, values []recipe.Value, runs []run) *bench {
 	b := &bench{
-		rules:   rules,
-		sources: sources,
-		numbers: make(map[string]int, len(rules)),
-		made:    make([]recipe.Value, len(rules)),
-		done:    make([]chan struct{}, len(rules)),
+		layout: layout,
+		values: values,
+		runs:   runs,
+		ran:    make([]bool, len(runs)),
+		made:   make([]chan struct{}, len(runs)),
 	}
-	for i, rule := range rules {
-		b.numbers[rule.Out] = i
-		b.done[i] = make(chan struct{})
+	for i := range b.made {
+		b.made[i] = make(chan struct{})
 	}
 	return b
 }
 
-func (b *bench) work(number int) {
-	defer close(b.done[number])
-	rule := b.rules[number]
-	ins := make([]recipe.Value, len(rule.Ins))
-	for i, in := range rule.Ins {
-		ins[i] = b.wait(in)
+// workAll begins each worker behind those that it waits for: so most have no need to wait.
+func (b *bench) workAll() {
+	var workers sync.WaitGroup
+	for _, number := range b.order {
+		workers.Add(1)
+		go func() {
+			defer workers.Done()
+			b.work(number)
+		}()
 	}
-	b.made[number] = recipe.Make(rule.Recipe, ins)
+	workers.Wait()
 }
 
-// wait looks for a rule first: a file that has the name of an Out is read by nobody.
-func (b *bench) wait(in string) recipe.Value {
-	number, isOut := b.numbers[in]
-	if !isOut {
-		return b.sources[in]
+func (b *bench) work(number int) {
+	defer close(b.made[number])
+	ins := b.waitFor(b.steps[number].ins)
+	if last := b.runs[number]; last.done && slices.Equal(last.ins, ins) {
+		return
 	}
-	<-b.done[number]
-	return b.made[number]
+	b.runs[number] = run{done: true, ins: ins, made: recipe.Make(b.steps[number].recipe, ins)}
+	b.ran[number] = true
+}
+
+func (b *bench) waitFor(ins []in) []recipe.Value {
+	values := make([]recipe.Value, len(ins))
+	for i, in := range ins {
+		if in.isOut {
+			<-b.made[in.number]
+			values[i] = b.runs[in.number].made
+		} else {
+			values[i] = b.values[in.number]
+		}
+	}
+	return values
 }
 
 func (b *bench) results() []api.Result {
-	out := make([]api.Result, len(b.rules))
-	for i, rule := range b.rules {
-		made := b.made[i]
-		out[i] = api.Result{Out: rule.Out, Text: made.Text, Failed: !made.There}
+	out := make([]api.Result, len(b.steps))
+	for i, step := range b.steps {
+		made := b.runs[i].made
+		out[i] = api.Result{Out: step.out, Text: made.Text, Failed: !made.There}
 	}
-	slices.SortFunc(out, func(x, y api.Result) int { return strings.Compare(x.Out, y.Out) })
 	return out
+}
+
+func (b *bench) ranOuts() []string {
+	var outs []string
+	for i, step := range b.steps {
+		if b.ran[i] {
+			outs = append(outs, step.out)
+		}
+	}
+	return outs
 }

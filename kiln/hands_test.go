@@ -12,7 +12,7 @@ import (
 	"kiln/kiln"
 )
 
-// Tests of P1 and P2, as far as they are said of Right and Clean.
+// Tests of P1 and P2, as far as they are said of Right and Clean. (Those of the daemon stand beside Read's.)
 
 // roomy gives a list of the same items that has spare room, filled with spare.
 func roomy[T any](items []T, spare T) []T {
@@ -57,9 +57,14 @@ func TestNothingHandedInIsWrittenInto(t *testing.T) {
 		before := record(rules, f)
 		kiln.Right(rules)
 		kiln.Clean(rules, f)
-		if after := record(rules, f); !reflect.DeepEqual(before, after) {
-			t.Errorf("handed in %+v, left behind %+v", before, after)
-		}
+		wantSame(t, before, record(rules, f))
+	}
+}
+
+func wantSame(t *testing.T, before, after handed) {
+	t.Helper()
+	if !reflect.DeepEqual(before, after) {
+		t.Errorf("handed in %+v, left behind %+v", before, after)
 	}
 }
 
@@ -101,12 +106,19 @@ func TestCallsSideBySide(t *testing.T) {
 }
 
 func TestNoGoroutineIsLeft(t *testing.T) {
+	wantNoGoroutines(t, func() {
+		for range 200 {
+			kiln.Clean([]api.Rule{rule("c", api.Join, "b"), rule("b", api.Join, "a"), rule("a", api.Join, "x")}, nil)
+			kiln.Clean([]api.Rule{rule("c", api.Join, "b"), rule("b", api.Join, "c")}, nil)
+			kiln.Clean([]api.Rule{rule("c", api.Join, "b")}, files("", ""))
+		}
+	})
+}
+
+func wantNoGoroutines(t *testing.T, calls func()) {
+	t.Helper()
 	before := runtime.NumGoroutine()
-	for range 200 {
-		kiln.Clean([]api.Rule{rule("c", api.Join, "b"), rule("b", api.Join, "a"), rule("a", api.Join, "x")}, nil)
-		kiln.Clean([]api.Rule{rule("c", api.Join, "b"), rule("b", api.Join, "c")}, nil)
-		kiln.Clean([]api.Rule{rule("c", api.Join, "b")}, files("", ""))
-	}
+	calls()
 	// One that has ended is still counted for a moment.
 	for range 200 {
 		if runtime.NumGoroutine() <= before {

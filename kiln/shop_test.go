@@ -1,0 +1,121 @@
+package kiln_test
+
+import (
+	"slices"
+	"testing"
+
+	"kiln/api"
+	"kiln/kiln"
+)
+
+// What tests of the daemon say calls and answers by.
+
+// shop is a kiln under test.
+type shop struct {
+	*kiln.Kiln
+	t *testing.T
+}
+
+func open(t *testing.T, rules ...api.Rule) shop {
+	t.Helper()
+	k, e := kiln.New(rules)
+	if k == nil || e != api.OK {
+		t.Fatalf("New(%+v) = %v, %d, want a kiln, 0", rules, k, e)
+	}
+	return shop{k, t}
+}
+
+func wantNoKiln(t *testing.T, rules []api.Rule, errno api.Errno) {
+	t.Helper()
+	if k, e := kiln.New(rules); k != nil || e != errno {
+		t.Errorf("New(%+v) = %v, %d, want nil, %d", rules, k, e, errno)
+	}
+}
+
+func (s shop) edits(name, text string, errno api.Errno) {
+	s.t.Helper()
+	if e := s.Edit(name, text); e != errno {
+		s.t.Fatalf("Edit(%q, %q) = %d, want %d", name, text, e, errno)
+	}
+}
+
+// edit goes by pairs: a name, its text.
+func (s shop) edit(pairs ...string) {
+	s.t.Helper()
+	for i := 0; i < len(pairs); i += 2 {
+		s.edits(pairs[i], pairs[i+1], api.OK)
+	}
+}
+
+func (s shop) ticks(n int, errno api.Errno) {
+	s.t.Helper()
+	if e := s.Tick(n); e != errno {
+		s.t.Fatalf("Tick(%d) = %d, want %d", n, e, errno)
+	}
+}
+
+func (s shop) tick(n int) {
+	s.t.Helper()
+	s.ticks(n, api.OK)
+}
+
+// does tells the next pieces of work.
+func (s shop) does(all ...api.Did) {
+	s.t.Helper()
+	for i, want := range all {
+		if did := s.Work(); did != want {
+			s.t.Fatalf("piece %d of work = %+v, want %+v", i, did, want)
+		}
+	}
+}
+
+// begins goes on from events that wait to the start of a build.
+func (s shop) begins() {
+	s.t.Helper()
+	s.does(intake)
+	s.tick(api.Quiet)
+	s.does(start)
+}
+
+// builds goes on from events that wait to a set that is published, of these sources.
+func (s shop) builds(sources ...string) {
+	s.t.Helper()
+	s.begins()
+	s.does(each(fetched, sources...)...)
+	s.does(each(checked, sources...)...)
+	s.does(publish)
+}
+
+func (s shop) shows(number int, ran []string, results ...api.Result) {
+	s.t.Helper()
+	set := s.Read()
+	if set.Number != number || !slices.Equal(set.Ran, ran) || !slices.Equal(set.Results, results) {
+		s.t.Fatalf("Read() = %+v, want %d, %+v, %q run", set, number, results, ran)
+	}
+}
+
+func ran(outs ...string) []string { return outs }
+
+var (
+	nothing = api.Did{Kind: 0}
+	intake  = api.Did{Kind: 1}
+	start   = api.Did{Kind: 2}
+	publish = api.Did{Kind: 6}
+)
+
+func fetched(name string) api.Did   { return api.Did{Kind: 3, Name: name} }
+func checked(name string) api.Did   { return api.Did{Kind: 4, Name: name} }
+func abandoned(name string) api.Did { return api.Did{Kind: 5, Name: name} }
+
+func each(did func(string) api.Did, names ...string) []api.Did {
+	var out []api.Did
+	for _, name := range names {
+		out = append(out, did(name))
+	}
+	return out
+}
+
+// exampleRules are those of the document; their sources are a, b and x.
+func exampleRules() []api.Rule {
+	return []api.Rule{rule("c", api.Join, "a", "b"), rule("d", api.Count, "a", "x", "c"), rule("e", api.Turn, "c", "c")}
+}

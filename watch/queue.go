@@ -1,0 +1,35 @@
+package watch
+
+import (
+	"slices"
+
+	"kiln/api"
+)
+
+// Queue is where the events of edits wait: a few names, and a mark that there were more.
+type Queue struct {
+	names []string
+	lost  bool
+}
+
+// Add is an event of a name. One that waits already tells enough.
+func (q *Queue) Add(name string) {
+	if slices.Contains(q.names, name) {
+		return
+	}
+	if len(q.names) >= api.MaxEvents {
+		q.lost = true
+		return
+	}
+	q.names = append(q.names, name)
+}
+
+// Waits tells whether there was an event since the queue was emptied, be it a lost one.
+func (q *Queue) Waits() bool {
+	return len(q.names) > 0 || q.lost
+}
+
+// Empty takes all events out, and the mark away.
+func (q *Queue) Empty() {
+	*q = Queue{}
+}
