@@ -74,7 +74,15 @@ func (k *Kiln) Edit(name string, text string) api.Errno {
 }
 
 // Remove takes a file away (P5).
-func (k *Kiln) Remove(name string) api.Errno { return api.OK }
+func (k *Kiln) Remove(name string) api.Errno {
+	k.turn.Lock()
+	defer k.turn.Unlock()
+	if e := k.files.Remove(name); e != api.OK {
+		return e
+	}
+	k.queue.Add(name)
+	return api.OK
+}
 
 // Tick lets time go on (P5).
 func (k *Kiln) Tick(n int) api.Errno {
@@ -109,4 +117,14 @@ func (k *Kiln) Read() api.Set {
 }
 
 // Look tells how it stands (P7).
-func (k *Kiln) Look() api.Look { return api.Look{} }
+func (k *Kiln) Look() api.Look {
+	k.turn.Lock()
+	defer k.turn.Unlock()
+	return api.Look{
+		Phase:  k.stand.phase,
+		Time:   k.time,
+		Since:  k.stand.since,
+		Events: k.queue.Names(),
+		Lost:   k.queue.Lost(),
+	}
+}

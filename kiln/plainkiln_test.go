@@ -11,14 +11,14 @@ import (
 	"kiln/kiln"
 )
 
-// P5, P6 and Read of P7 once more, written down plainly and in another way, and held against a kiln at many
+// P5, P6 and P7 once more, written down plainly and in another way, and held against a kiln at many
 // made-up calls.
 
 type plainKiln struct {
 	rules       []api.Rule
 	files       []api.File
 	edits       []string // the names of all edits there were: a stamp is how often a name is among them
-	queue       map[string]bool
+	queue       []string
 	lost        bool
 	time, since int
 	phase       string
@@ -30,7 +30,7 @@ type plainKiln struct {
 }
 
 func newPlainKiln(rules []api.Rule) *plainKiln {
-	return &plainKiln{rules: rules, queue: map[string]bool{}, phase: "idle", lastIns: map[string]string{}}
+	return &plainKiln{rules: rules, phase: "idle", lastIns: map[string]string{}}
 }
 
 func (k *plainKiln) find(name string) int {
@@ -61,13 +61,44 @@ func (k *plainKiln) edit(name, text string) api.Errno {
 	default:
 		k.files[at].Text = text
 	}
-	k.edits = append(k.edits, name)
-	if !k.queue[name] && len(k.queue) == 4 {
-		k.lost = true
-	} else {
-		k.queue[name] = true
-	}
+	k.event(name)
 	return api.OK
+}
+
+func (k *plainKiln) event(name string) {
+	k.edits = append(k.edits, name)
+	waits := slices.Contains(k.queue, name)
+	if !waits && len(k.queue) == 4 {
+		k.lost = true
+	} else if !waits {
+		k.queue = append(k.queue, name)
+	}
+}
+
+func (k *plainKiln) remove(name string) api.Errno {
+	at := k.find(name)
+	switch {
+	case !plainName(name):
+		return api.ErrName
+	case at < 0:
+		return api.ErrNone
+	}
+	k.files = append(k.files[:at:at], k.files[at+1:]...)
+	k.event(name)
+	return api.OK
+}
+
+func (k *plainKiln) look() api.Look {
+	out := api.Look{Time: k.time, Events: k.queue, Lost: k.lost}
+	switch k.phase {
+	case "waiting":
+		out.Phase, out.Since = 1, k.since
+	case "reading":
+		out.Phase = 2
+	case "checking":
+		out.Phase = 3
+	}
+	return out
 }
 
 func (k *plainKiln) tick(n int) api.Errno {
@@ -95,7 +126,7 @@ func (k *plainKiln) work() api.Did {
 	if k.phase == "idle" || k.phase == "waiting" {
 		switch {
 		case len(k.queue) > 0 || k.lost:
-			k.queue, k.lost, k.phase, k.since = map[string]bool{}, false, "waiting", k.time
+			k.queue, k.lost, k.phase, k.since = nil, false, "waiting", k.time
 			return api.Did{Kind: 1}
 		case k.phase == "waiting" && k.time >= k.since+5:
 			k.phase, k.todo, k.seen, k.stamps = "reading", k.sources(), nil, map[string]int{}
@@ -177,6 +208,14 @@ func (m maker) edited(k *plainKiln) (string, string) {
 	return name, text
 }
 
+// removed gives a name that is most often that of a file.
+func (m maker) removed(k *plainKiln) string {
+	if len(k.files) > 0 && m.Intn(4) > 0 {
+		return k.files[m.Intn(len(k.files))].Name
+	}
+	return m.name()
+}
+
 func (m maker) ticks() int {
 	if m.seldom() {
 		return []int{0, -1, 101, math.MaxInt, math.MinInt}[m.Intn(5)]
@@ -184,63 +223,80 @@ func (m maker) ticks() int {
 	return []int{1, 2, 4, 5, 9, 100}[m.Intn(6)]
 }
 
+// mood is how calls are made up: of so many as it is eager for five are no work, and of so many Removes as
+// it is thrifty for one is made.
+type mood struct{ eager, thrifty int }
+
+func (m maker) mood() mood {
+	return mood{eager: 6 + m.Intn(33), thrifty: []int{1, 20}[m.Intn(2)]}
+}
+
+// call makes one call up, and makes it of both: what was called, and what each answered.
+func (m maker) call(k *kiln.Kiln, plain *plainKiln, mood mood) (told string, got, want any) {
+	switch n := m.Intn(mood.eager); {
+	case n < 2:
+		name, text := m.edited(plain)
+		return fmt.Sprintf("Edit(%q, %q)", name, text), k.Edit(name, text), plain.edit(name, text)
+	case n < 3 && m.Intn(mood.thrifty) == 0:
+		name := m.removed(plain)
+		return fmt.Sprintf("Remove(%q)", name), k.Remove(name), plain.remove(name)
+	case n < 5:
+		ticks := m.ticks()
+		return fmt.Sprintf("Tick(%d)", ticks), k.Tick(ticks), plain.tick(ticks)
+	}
+	return "Work()", k.Work(), plain.work()
+}
+
 func TestAgainstThePlainKiln(t *testing.T) {
 	m := maker{rand.New(rand.NewSource(2))}
-	did, errnos, reused := map[int]int{}, map[api.Errno]int{}, 0
+	answers, reused, looks := map[any]int{}, 0, map[string]int{}
 	for range 1500 {
 		rules := m.rightRules()
 		plain := newPlainKiln(rules)
-		k, e := kiln.New(rules)
-		if e != api.OK {
-			t.Fatalf("New(%+v) = %d", rules, e)
-		}
-		eager := 8 + m.Intn(30) // of so many calls four are no work
+		k := open(t, rules...).Kiln
+		mood := m.mood()
 		var story []string
 		for range 250 {
-			var got, want any
-			switch n := m.Intn(eager); {
-			case n < 2:
-				name, text := m.edited(plain)
-				story = append(story, fmt.Sprintf("Edit(%q, %q)", name, text))
-				e := plain.edit(name, text)
-				errnos[e]++
-				got, want = k.Edit(name, text), e
-			case n < 4:
-				ticks := m.ticks()
-				story = append(story, fmt.Sprintf("Tick(%d)", ticks))
-				e := plain.tick(ticks)
-				errnos[e]++
-				got, want = k.Tick(ticks), e
-			default:
-				story = append(story, "Work()")
-				d := plain.work()
-				did[d.Kind]++
-				got, want = k.Work(), d
-				if d.Kind == api.Publish && len(plain.set.Ran) < len(rules) {
-					reused++
-				}
-			}
+			told, got, want := m.call(k, plain, mood)
+			story = append(story, told)
 			if got != want {
 				t.Fatalf("of %+v, by %q: %v, want %v", rules, story, got, want)
 			}
-			set := k.Read()
-			if set.Number != plain.set.Number || !slices.Equal(set.Results, plain.set.Results) || !slices.Equal(set.Ran, plain.set.Ran) {
+			if set := k.Read(); !sameSet(set, plain.set) {
 				t.Fatalf("of %+v, by %q: Read() = %+v, want %+v", rules, story, set, plain.set)
+			}
+			if look := k.Look(); !sameLook(look, plain.look()) {
+				t.Fatalf("of %+v, by %q: Look() = %+v, want %+v", rules, story, look, plain.look())
+			}
+			if did, ok := want.(api.Did); ok {
+				want = did.Kind
+			}
+			answers[want]++
+			looks[fmt.Sprintf("%s, %d wait, lost: %v", plain.phase, min(1, len(plain.queue)), plain.lost)]++
+			if want == api.Publish && len(plain.set.Ran) < len(rules) {
+				reused++
 			}
 		}
 	}
-	t.Log(did, errnos, reused)
+	t.Log(answers, reused, looks)
 	for kind := api.Nothing; kind <= api.Publish; kind++ {
-		if did[kind] < 500 {
-			t.Errorf("only %d pieces of made-up work were of kind %d: they say too little of it", did[kind], kind)
+		wantOften(t, answers[kind], "pieces of work were of kind", kind)
+	}
+	for _, e := range []api.Errno{api.OK, api.ErrMany, api.ErrName, api.ErrText, api.ErrNone, api.ErrArg} {
+		wantOften(t, answers[e], "calls had the answer", e)
+	}
+	for _, phase := range []string{"idle", "waiting", "reading", "checking"} {
+		for _, rest := range []string{", 0 wait, lost: false", ", 1 wait, lost: false", ", 1 wait, lost: true"} {
+			wantOften(t, looks[phase+rest], "looks were", phase+rest)
 		}
 	}
-	for _, e := range []api.Errno{api.OK, api.ErrMany, api.ErrName, api.ErrText, api.ErrArg} {
-		if errnos[e] < 100 {
-			t.Errorf("only %d made-up calls had the answer %d: they say too little of it", errnos[e], e)
-		}
-	}
-	if reused < 500 {
-		t.Errorf("only %d made-up sets had a result that was not run: they say too little of it", reused)
+	wantOften(t, reused, "sets had results that were", "not run")
+}
+
+// wantOften sees to it that what is made up says something.
+func wantOften(t *testing.T, n int, what string, which any) {
+	t.Helper()
+	if n < 100 {
+		t.Errorf("only %d made-up %s %v: they say too little of it", n, what, which)
 	}
 }

@@ -144,7 +144,10 @@ func TestNoGoroutineIsLeftByTheDaemon(t *testing.T) {
 			s.builds("a", "b", "x")
 			s.edit("a", "3")
 			s.begins()
+			s.remove("a")
+			s.removes("a", api.ErrNone)
 			s.Read()
+			s.Look()
 		}
 	})
 }
@@ -157,6 +160,8 @@ func TestCallsOfOneKilnSideBySide(t *testing.T) {
 		callers.Go(func() {
 			for range 300 {
 				s.Edit("a", letters(4)[i])
+				s.Edit("b", "")
+				s.Remove("b")
 				s.Tick(5)
 				for range 5 {
 					s.Work()
@@ -175,6 +180,9 @@ func TestCallsOfOneKilnSideBySide(t *testing.T) {
 				last = set.Number
 				if set.Number > 0 && (len(set.Results) != 3 || set.Results[1].Text != set.Results[2].Text) {
 					t.Errorf("a set that is not whole was read: %+v", set)
+				}
+				if look := s.Look(); look.Since > look.Time || len(look.Events) > 2 || look.Lost {
+					t.Errorf("it was seen like this: %+v", look)
 				}
 			}
 		})

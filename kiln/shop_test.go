@@ -47,6 +47,20 @@ func (s shop) edit(pairs ...string) {
 	}
 }
 
+func (s shop) removes(name string, errno api.Errno) {
+	s.t.Helper()
+	if e := s.Remove(name); e != errno {
+		s.t.Fatalf("Remove(%q) = %d, want %d", name, e, errno)
+	}
+}
+
+func (s shop) remove(names ...string) {
+	s.t.Helper()
+	for _, name := range names {
+		s.removes(name, api.OK)
+	}
+}
+
 func (s shop) ticks(n int, errno api.Errno) {
 	s.t.Helper()
 	if e := s.Tick(n); e != errno {
@@ -88,10 +102,40 @@ func (s shop) builds(sources ...string) {
 
 func (s shop) shows(number int, ran []string, results ...api.Result) {
 	s.t.Helper()
-	set := s.Read()
-	if set.Number != number || !slices.Equal(set.Ran, ran) || !slices.Equal(set.Results, results) {
+	if set := s.Read(); !sameSet(set, api.Set{Number: number, Results: results, Ran: ran}) {
 		s.t.Fatalf("Read() = %+v, want %d, %+v, %q run", set, number, results, ran)
 	}
+}
+
+func (s shop) looks(want api.Look) {
+	s.t.Helper()
+	if look := s.Look(); !sameLook(look, want) {
+		s.t.Fatalf("Look() = %+v, want %+v", look, want)
+	}
+}
+
+func sameLook(x, y api.Look) bool {
+	return x.Phase == y.Phase && x.Time == y.Time && x.Since == y.Since && x.Lost == y.Lost && slices.Equal(x.Events, y.Events)
+}
+
+func sameSet(x, y api.Set) bool {
+	return x.Number == y.Number && slices.Equal(x.Results, y.Results) && slices.Equal(x.Ran, y.Ran)
+}
+
+// What Look tells where no event waits.
+func idle(time int) api.Look           { return api.Look{Phase: 0, Time: time} }
+func waiting(time, since int) api.Look { return api.Look{Phase: 1, Time: time, Since: since} }
+func reading(time int) api.Look        { return api.Look{Phase: 2, Time: time} }
+func checking(time int) api.Look       { return api.Look{Phase: 3, Time: time} }
+
+func with(look api.Look, events ...string) api.Look {
+	look.Events = events
+	return look
+}
+
+func withLost(look api.Look, events ...string) api.Look {
+	look.Events, look.Lost = events, true
+	return look
 }
 
 func ran(outs ...string) []string { return outs }

@@ -10,7 +10,7 @@ import (
 // a stand of its own, so that nothing of an earlier build is left in it.
 type stand struct {
 	phase   int
-	since   int           // of Waiting
+	since   int           // of Waiting; 0 in all other phases
 	sources []string      // of the build that was begun
 	read    []watch.Sight // of the first sources, in their order
 	checked int           // how many of these were

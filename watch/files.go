@@ -40,6 +40,20 @@ func (f *Files) Edit(name, text string) api.Errno {
 	return api.OK
 }
 
+// Remove takes a file away (P5). Its stamp stays, and goes on: else one that was taken away and made anew
+// would look as if nobody had touched it.
+func (f *Files) Remove(name string) api.Errno {
+	if !check.Name(name) {
+		return api.ErrName
+	}
+	if !f.there[name].There {
+		return api.ErrNone
+	}
+	delete(f.there, name)
+	f.stamps[name]++
+	return api.OK
+}
+
 // See looks at a file, which need not be there.
 func (f *Files) See(name string) Sight {
 	return Sight{Value: f.there[name], Stamp: f.stamps[name]}

@@ -29,6 +29,16 @@ func (q *Queue) Waits() bool {
 	return len(q.names) > 0 || q.lost
 }
 
+// Names tells the names that wait, the one that came first ahead, in a list of the caller's own.
+func (q *Queue) Names() []string {
+	return slices.Clone(q.names)
+}
+
+// Lost tells whether there was an event that found no room since the queue was emptied.
+func (q *Queue) Lost() bool {
+	return q.lost
+}
+
 // Empty takes all events out, and the mark away.
 func (q *Queue) Empty() {
 	*q = Queue{}

@@ -9,7 +9,7 @@ import (
 	"kiln/recipe"
 )
 
-// Tests of what P5 says of stamps and events, as far as Work doesn't show it.
+// Tests of what P5 says of stamps and events.
 
 func TestTheQueueKeepsOrderAndLosesTheFifth(t *testing.T) {
 	for _, c := range []struct {
@@ -30,19 +30,19 @@ func TestTheQueueKeepsOrderAndLosesTheFifth(t *testing.T) {
 		for _, name := range strings.Fields(c.events) {
 			q.Add(name)
 		}
-		if !slices.Equal(q.names, strings.Fields(c.names)) || q.lost != c.lost {
-			t.Errorf("after the events %q: %q, lost: %v", c.events, q.names, q.lost)
+		if !slices.Equal(q.Names(), strings.Fields(c.names)) || q.Lost() != c.lost {
+			t.Errorf("after the events %q: %q, lost: %v", c.events, q.Names(), q.Lost())
 		}
 		if q.Waits() != (c.events != "") {
 			t.Errorf("after the events %q: Waits() = %v", c.events, q.Waits())
 		}
 		q.Empty()
-		if q.Waits() || len(q.names) != 0 || q.lost {
-			t.Errorf("emptied after the events %q: %q, lost: %v", c.events, q.names, q.lost)
+		if q.Waits() || len(q.Names()) != 0 || q.Lost() {
+			t.Errorf("emptied after the events %q: %q, lost: %v", c.events, q.Names(), q.Lost())
 		}
 		q.Add("z")
-		if !slices.Equal(q.names, []string{"z"}) || q.lost {
-			t.Errorf("after an event behind emptying: %q, lost: %v", q.names, q.lost)
+		if !slices.Equal(q.Names(), []string{"z"}) || q.Lost() {
+			t.Errorf("after an event behind emptying: %q, lost: %v", q.Names(), q.Lost())
 		}
 	}
 }
@@ -79,3 +79,41 @@ func TestStampsCountEdits(t *testing.T) {
 		t.Errorf("of a thirteenth file: %d, then %+v", e, f.See("m"))
 	}
 }
+
+func TestNamesAreTheCallers(t *testing.T) {
+	var q Queue
+	q.Add("a")
+	q.Add("b")
+	first := q.Names()
+	first[0] = "z"
+	_ = append(first, "y")
+	q.Add("c")
+	if second := q.Names(); !slices.Equal(second, []string{"a", "b", "c"}) || !slices.Equal(first, []string{"z", "b"}) {
+		t.Errorf("Names() = %q, and those told first are %q", second, first)
+	}
+}
+
+func TestStampsCountRemoves(t *testing.T) {
+	f := NewFiles()
+	for _, c := range []struct {
+		name  string
+		call  func(string) api.Errno
+		errno api.Errno
+		want  Sight
+	}{
+		{"a", f.Remove, api.ErrNone, Sight{}},
+		{"A", f.Remove, api.ErrName, Sight{}},
+		{"a", f.write, api.OK, Sight{recipe.Value{There: true, Text: "1"}, 1}},
+		{"b", f.Remove, api.ErrNone, Sight{}},
+		{"a", f.Remove, api.OK, Sight{Stamp: 2}},
+		{"a", f.Remove, api.ErrNone, Sight{Stamp: 2}},
+		{"a", f.write, api.OK, Sight{recipe.Value{There: true, Text: "1"}, 3}},
+		{"a", f.Remove, api.OK, Sight{Stamp: 4}},
+	} {
+		if e := c.call(c.name); e != c.errno || f.See(c.name) != c.want {
+			t.Errorf("of %q: %d, then %+v, want %d, %+v", c.name, e, f.See(c.name), c.errno, c.want)
+		}
+	}
+}
+
+func (f *Files) write(name string) api.Errno { return f.Edit(name, "1") }
